@@ -1,0 +1,1 @@
+"""Farhail: places and ties known by how far they are from few lookouts."""

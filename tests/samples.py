@@ -1,0 +1,121 @@
+"""Webs to try the program on, slow answers to hold it against, and a check of refusals."""
+
+import itertools
+import random
+import unittest
+
+from farhail import errors
+
+KINDS = ("places", "ties", "all")
+HUGE = 10 ** 5000
+
+
+def row(many):
+    return (many, tuple((at, at + 1) for at in range(many - 1)))
+
+
+def ring(many):
+    return (many, tuple(sorted(row(many)[1] + ((0, many - 1),))))
+
+
+def star(many):
+    return (many, tuple((0, at) for at in range(1, many)))
+
+
+def whole(many):
+    return (many, tuple(itertools.combinations(range(many), 2)))
+
+
+def grid(wide, high):
+    ties = [(x * high + y, x * high + y + 1) for x in range(wide) for y in range(high - 1)]
+    ties += [(x * high + y, x * high + high + y) for x in range(wide - 1) for y in range(high)]
+    return (wide * high, tuple(sorted(ties)))
+
+
+def two_sided(left, right):
+    return (left + right, tuple((one, left + other) for one in range(left) for other in range(right)))
+
+
+def chance_web(many, more, seed):
+    """A tree drawn by a seed, with at most so many ties more; the same each time."""
+    draw = random.Random(seed)
+    names = list(range(many))
+    draw.shuffle(names)
+    ties = {tuple(sorted((names[at], names[draw.randrange(at)]))) for at in range(1, many)}
+    for turn in range(more):
+        one, other = draw.randrange(many), draw.randrange(many)
+        if one != other:
+            ties.add((min(one, other), max(one, other)))
+    return (many, tuple(sorted(ties)))
+
+
+def holds_together(web):
+    many, ties = web
+    reached = {0}
+    for turn in range(many):
+        for one, other in ties:
+            if one in reached or other in reached:
+                reached |= {one, other}
+    return len(reached) == many
+
+
+def all_webs(many):
+    """Every web of so many places."""
+    pairs = list(itertools.combinations(range(many), 2))
+    for count in range(many - 1, len(pairs) + 1):
+        for ties in itertools.combinations(pairs, count):
+            if holds_together((many, ties)):
+                yield (many, ties)
+
+
+def sample_webs():
+    """Webs of every sort, small and great."""
+    webs = [web for many in range(1, 5) for web in all_webs(many)]
+    webs += [row(many) for many in (5, 8, 60)] + [ring(many) for many in (5, 6, 7, 8, 60)]
+    webs += [star(many) for many in (5, 9, 60)] + [whole(5), whole(8), whole(20)]
+    webs += [grid(2, 3), grid(3, 3), grid(4, 5), two_sided(2, 3), two_sided(3, 4)]
+    webs += [chance_web(many, 0, many) for many in (6, 11, 24, 40)]
+    webs += [chance_web(many, more, many) for many, more in ((6, 3), (9, 9), (13, 5), (25, 40))]
+    return webs + [chance_web(60, 0, 1), chance_web(60, 140, 2)]
+
+
+def slow_fars(web):
+    """A table of how far each two places are, by trying each place as one on the way."""
+    many, ties = web
+    table = [[0 if one == other else many for other in range(many)] for one in range(many)]
+    for one, other in ties:
+        table[one][other] = table[other][one] = 1
+    for way in range(many):
+        for one in range(many):
+            for other in range(many):
+                table[one][other] = min(table[one][other], table[one][way] + table[way][other])
+    return table
+
+
+def slow_far(table, place, thing):
+    """How far a place is from a thing, by such a table."""
+    if type(thing) is int:
+        return table[place][thing]
+    return min(table[place][end] for end in thing)
+
+
+def slow_things(web, kind):
+    many, ties = web
+    return {"places": list(range(many)), "ties": list(ties), "all": list(range(many)) + list(ties)}[kind]
+
+
+def chance_looks(web, seed):
+    """Some places of a web, rising, drawn by a seed; the same each time."""
+    draw = random.Random(seed)
+    return sorted(draw.sample(range(web[0]), draw.randint(0, min(web[0], 6))))
+
+
+class Trial(unittest.TestCase):
+    """A test that can ask for a refusal of just one class."""
+
+    def assert_refused(self, refusal, deed, *handed):
+        with self.assertRaises(errors.HailError) as caught:
+            deed(*handed)
+        self.assertIs(type(caught.exception), refusal)
+        self.assertIsInstance(caught.exception, ValueError)
+        return caught.exception

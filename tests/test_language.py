@@ -1,0 +1,118 @@
+"""The package's own files keep to the small part of Python that the program is written in."""
+
+import ast
+import builtins
+import pathlib
+import re
+import unittest
+
+PACKAGE = pathlib.Path(__file__).resolve().parent.parent / "farhail"
+
+OWN_NAMES = set(
+    "len range enumerate zip min max sum abs sorted reversed int str bool bytes list tuple dict set frozenset "
+    "isinstance ord repr any all divmod Exception ValueError TypeError KeyError IndexError LookupError "
+    "ZeroDivisionError ArithmeticError OverflowError RuntimeError NotImplementedError AttributeError "
+    "StopIteration".split())
+OWN_METHODS = set(
+    "append clear copy count endswith extend find get index insert isalnum isalpha isdigit islower isspace "
+    "isupper items join keys ljust lower lstrip partition pop remove replace reverse rfind rjust rpartition "
+    "rsplit rstrip setdefault split splitlines startswith strip update upper values zfill bit_length title "
+    "capitalize swapcase casefold center expandtabs removeprefix removesuffix rindex isascii isdecimal isnumeric "
+    "istitle isidentifier isprintable add discard sort __init__".split())
+BARRED_WORDS = set(
+    "type typing typing_extensions enum Enum IntEnum StrEnum Flag IntFlag Generic Protocol ABC ABCMeta namedtuple "
+    "NamedTuple TypedDict TYPE_CHECKING abstractmethod".split())
+BARRED_NODES = (
+    ast.With, ast.Match, ast.Global, ast.Nonlocal, ast.Yield, ast.YieldFrom, ast.AsyncFunctionDef, ast.AsyncFor,
+    ast.AsyncWith, ast.Await, ast.GeneratorExp, ast.NamedExpr, ast.Import, ast.Div, ast.MatMult,
+)
+DEFS = (ast.FunctionDef, ast.ClassDef)
+
+
+def files():
+    return sorted(path for path in PACKAGE.rglob("*") if "__pycache__" not in path.parts)
+
+
+def walked():
+    """Each node of each file, beside the file's name."""
+    return [(path.name, node) for path in files() for node in ast.walk(ast.parse(path.read_text("utf-8")))]
+
+
+def top_names(path):
+    body = ast.parse(path.read_text("utf-8")).body
+    names = [node.name for node in body if isinstance(node, DEFS)]
+    return names + [node.targets[0].id for node in body if isinstance(node, ast.Assign)]
+
+
+class LanguageTest(unittest.TestCase):
+
+    def assert_none(self, wrongs):
+        self.assertEqual(list(wrongs), [])
+
+    def test_the_package_holds_plain_files_alone(self):
+        self.assertIn(PACKAGE / "__init__.py", files())
+        self.assert_none(path for path in files() if not re.fullmatch(r"[a-z_][a-z0-9_]*\.py", path.name))
+
+    def test_signs_and_sizes(self):
+        for path in files():
+            lines = path.read_bytes().decode("ascii").split("\n")
+            self.assertLessEqual(len(lines) - 1, 400, path)
+            self.assert_none(line for line in lines if len(line) > 120 or re.search("[^ -~]", line))
+        for name, node in walked():
+            if isinstance(node, ast.FunctionDef):
+                self.assertLessEqual(node.end_lineno - node.lineno + 1, 40, (name, node.name))
+
+    def test_words_that_stand_nowhere(self):
+        for path in files():
+            words = set(re.findall(r"\w+", path.read_text("utf-8")))
+            self.assert_none(words & BARRED_WORDS)
+            self.assert_none(word for word in words if re.search("dataclass|overload|contextmanager", word))
+
+    def test_imports_are_drawn_from_the_file_that_defines_the_name(self):
+        for name, node in walked():
+            if isinstance(node, ast.ImportFrom):
+                self.assertEqual(node.level, 0, name)
+                self.assertRegex(node.module, r"^farhail\.\w+$")
+                source = PACKAGE / (node.module.split(".")[1] + ".py")
+                self.assert_none({alias.name for alias in node.names} - set(top_names(source)))
+
+    def test_forms_that_are_not_used(self):
+        self.assert_none((name, ast.dump(node)) for name, node in walked() if isinstance(node, BARRED_NODES))
+        for name, node in walked():
+            if isinstance(node, (ast.For, ast.While)):
+                self.assert_none(node.orelse)
+            if isinstance(node, DEFS):
+                self.assert_none(node.decorator_list)
+            if isinstance(node, ast.FunctionDef):
+                self.assertEqual((node.args.vararg, node.args.kwarg, node.args.posonlyargs), (None, None, []))
+            if isinstance(node, ast.Compare) and any(isinstance(sign, (ast.Is, ast.IsNot)) for sign in node.ops):
+                self.assertIsInstance(node.comparators[0], ast.Constant, (name, node.lineno))
+
+    def test_written_values(self):
+        for name, node in walked():
+            if isinstance(node, ast.Constant):
+                self.assertNotIsInstance(node.value, (float, complex), (name, node.lineno))
+                if isinstance(node.value, str):
+                    self.assertNotIn("%", node.value, (name, node.lineno))
+            if isinstance(node, ast.BinOp) and isinstance(node.op, ast.Pow):
+                self.assertIsInstance(node.right, ast.Constant, (name, node.lineno))
+
+    def test_names(self):
+        for name, node in walked():
+            if isinstance(node, ast.Name):
+                self.assertRegex(node.id, "^[A-Za-z]", (name, node.lineno))
+                if node.id in dir(builtins):
+                    self.assertIn(node.id, OWN_NAMES, (name, node.lineno))
+                    self.assertIsInstance(node.ctx, ast.Load, (name, node.lineno))
+            if isinstance(node, ast.arg):
+                self.assertNotIn(node.arg, dir(builtins), (name, node.lineno))
+
+    def test_methods(self):
+        own = {node.name for name, node in walked() if isinstance(node, ast.FunctionDef)}
+        for name, node in walked():
+            if isinstance(node, ast.Call) and isinstance(node.func, ast.Attribute):
+                self.assertIn(node.func.attr, OWN_METHODS | own, (name, node.lineno))
+
+
+if __name__ == "__main__":
+    unittest.main()
