@@ -68,6 +68,44 @@ def all_webs(many):
                 yield (many, ties)
 
 
+def all_trees(many):
+    """Every tree of so many places."""
+    pairs = itertools.combinations(range(many), 2)
+    return [(many, ties) for ties in itertools.combinations(pairs, many - 1) if holds_together((many, ties))]
+
+
+def spider(legs):
+    """A tree with a fork, place 0, and a leg of each told length."""
+    ties = []
+    many = 1
+    for leg in legs:
+        ties += [(0 if at == 0 else many + at - 1, many + at) for at in range(leg)]
+        many += leg
+    return (many, tuple(sorted(ties)))
+
+
+def renamed(web, seed):
+    """The same web with its places called otherwise, drawn by a seed; the same each time."""
+    many, ties = web
+    names = list(range(many))
+    random.Random(seed).shuffle(names)
+    return (many, tuple(sorted(tuple(sorted((names[one], names[other]))) for one, other in ties)))
+
+
+def small_trees():
+    """All trees of one to five places, and some of more."""
+    trees = [tree for many in range(1, 6) for tree in all_trees(many)]
+    trees += [chance_web(many, 0, 10 * many + seed) for many in (6, 7, 8, 9) for seed in range(6)]
+    trees += [renamed(spider(legs), at) for at, legs in enumerate(((1, 1, 1, 1), (3, 2, 1), (2, 2, 2), (4, 3)))]
+    return trees + [row(8), star(8), renamed(row(7), 1), renamed(star(7), 1)]
+
+
+def great_trees():
+    """Trees of 40 to 60 places."""
+    trees = [row(60), star(60), renamed(row(60), 1), renamed(star(60), 2), spider((3,) * 19 + (2,))]
+    return trees + [chance_web(many, 0, many) for many in (40, 50, 58, 59, 60)]
+
+
 def sample_webs():
     """Webs of every sort, small and great."""
     webs = [web for many in range(1, 5) for web in all_webs(many)]
@@ -104,10 +142,43 @@ def slow_things(web, kind):
     return {"places": list(range(many)), "ties": list(ties), "all": list(range(many)) + list(ties)}[kind]
 
 
+def slow_code(table, looks, thing):
+    return [slow_far(table, look, thing) for look in looks]
+
+
+def slow_known(table, looks, things):
+    """Whether the things are known by looks: all codes are unlike."""
+    return len({tuple(slow_code(table, looks, thing)) for thing in things}) == len(things)
+
+
+def slow_parters(table, one, other):
+    return [place for place in range(len(table)) if slow_far(table, place, one) != slow_far(table, place, other)]
+
+
+def slow_strength(table, looks, things):
+    """The least number of looks that part two of the things; None where there are not two."""
+    pairs = itertools.combinations(things, 2)
+    return min((len(set(looks) & set(slow_parters(table, one, other))) for one, other in pairs), default=None)
+
+
+def all_looks(many):
+    """All looks in a web of so many places, the fewest first, those of one length in the order of lists."""
+    return [list(looks) for count in range(many + 1) for looks in itertools.combinations(range(many), count)]
+
+
 def chance_looks(web, seed):
     """Some places of a web, rising, drawn by a seed; the same each time."""
     draw = random.Random(seed)
     return sorted(draw.sample(range(web[0]), draw.randint(0, min(web[0], 6))))
+
+
+def list_parts(told):
+    """What is told, if it is a list, and all lists in it."""
+    parts = [told] if type(told) is list else []
+    if type(told) in (list, tuple):
+        for part in told:
+            parts += list_parts(part)
+    return parts
 
 
 class Trial(unittest.TestCase):
@@ -119,3 +190,8 @@ class Trial(unittest.TestCase):
         self.assertIs(type(caught.exception), refusal)
         self.assertIsInstance(caught.exception, ValueError)
         return caught.exception
+
+    def assert_own(self, told):
+        """Asks that no two lists in what is told are one and the same."""
+        found = list_parts(told)
+        self.assertEqual(len({id(part) for part in found}), len(found))

@@ -44,6 +44,24 @@ def top_names(path):
     return names + [node.targets[0].id for node in body if isinstance(node, ast.Assign)]
 
 
+def drawn_from(path):
+    """The files that a file's import rows name, beside the names that they draw in."""
+    rows = [node for node in ast.parse(path.read_text("utf-8")).body if isinstance(node, ast.ImportFrom)]
+    return {row.module.split(".")[1]: [alias.name for alias in row.names] for row in rows}
+
+
+def parents(tree):
+    """For each node the one it stands straight in."""
+    return {child: node for node in ast.walk(tree) for child in ast.iter_child_nodes(node)}
+
+
+def called(node):
+    """The name or the method that a call calls, None of what is no call."""
+    if not isinstance(node, ast.Call):
+        return None
+    return node.func.attr if isinstance(node.func, ast.Attribute) else node.func.id
+
+
 class LanguageTest(unittest.TestCase):
 
     def assert_none(self, wrongs):
@@ -112,6 +130,48 @@ class LanguageTest(unittest.TestCase):
         for name, node in walked():
             if isinstance(node, ast.Call) and isinstance(node.func, ast.Attribute):
                 self.assertIn(node.func.attr, OWN_METHODS | own, (name, node.lineno))
+
+    def test_no_two_files_draw_from_one_another(self):
+        left = {path.stem: set(drawn_from(path)) for path in files()}
+        while left:
+            free = [name for name in left if not left[name] & set(left)]
+            self.assertTrue(free, left)
+            for name in free:
+                del left[name]
+
+    def test_nothing_is_called_like_an_import_or_a_class_of_its_file(self):
+        for path in files():
+            tree = ast.parse(path.read_text("utf-8"))
+            taken = {name for names in drawn_from(path).values() for name in names}
+            taken |= {node.name for node in tree.body if isinstance(node, ast.ClassDef)}
+            given = {node.arg for node in ast.walk(tree) if isinstance(node, ast.arg)}
+            given |= {node.id for node in ast.walk(tree) if isinstance(node, ast.Name) and type(node.ctx) is ast.Store}
+            self.assert_none(given & (taken | set(dir(builtins))))
+
+    def test_walked_on_the_spot(self):
+        walkers = "zip enumerate reversed range items keys values".split()
+        takers = "list tuple dict sorted sum any all enumerate zip bytes min max".split()
+        for path in files():
+            tree = ast.parse(path.read_text("utf-8"))
+            above = parents(tree)
+            for node in ast.walk(tree):
+                if called(node) in walkers:
+                    holder = above[node]
+                    walked_there = isinstance(holder, (ast.For, ast.comprehension)) and holder.iter is node
+                    taken_there = called(holder) in takers and holder.args[0] is node
+                    asked_there = isinstance(holder, ast.Compare) and isinstance(holder.ops[0], (ast.In, ast.NotIn))
+                    self.assertTrue(walked_there or taken_there or asked_there, (path.name, node.lineno))
+
+    def test_sets_are_plain_locals_or_used_up_at_once(self):
+        for path in files():
+            tree = ast.parse(path.read_text("utf-8"))
+            above = parents(tree)
+            for node in ast.walk(tree):
+                if called(node) == "set" or isinstance(node, (ast.Set, ast.SetComp)):
+                    holder = above[node]
+                    kept = isinstance(holder, ast.Assign) and isinstance(holder.targets[0], ast.Name)
+                    used = called(holder) in ("sorted", "len") or isinstance(holder, ast.Compare)
+                    self.assertTrue(kept or used, (path.name, node.lineno))
 
 
 if __name__ == "__main__":
