@@ -12,13 +12,20 @@ def things_of(web, kind):
     return places + joins
 
 
-def refuse_wrong_looks(web, looks):
-    """Refuses a list of whole numbers that doesn't rise, or has one that is no place."""
+def are_looks(web, looks):
+    """Whether whole numbers are unlike places of the web, rising."""
     last = -1
     for look in looks:
         if not last < look < web[0]:
-            raise NoLooks("looks are unlike places of the web, rising")
+            return False
         last = look
+    return True
+
+
+def refuse_wrong_looks(web, looks):
+    """Refuses a list of whole numbers that doesn't rise, or has one that is no place."""
+    if not are_looks(web, looks):
+        raise NoLooks("looks are unlike places of the web, rising")
 
 
 def is_thing(web, thing):
@@ -54,13 +61,21 @@ def code_of(web, looks, thing):
     return codes_of(web, looks, [thing])[0]
 
 
+def far_rows(web):
+    """For each place, in order, how far all places are from it."""
+    return [fars_from(web, place) for place in range(web[0])]
+
+
+def parters_by(rows, one, other):
+    """All places that part two things, rising; the rows tell how far all places are from each one."""
+    return [place for place, fars in enumerate(rows) if thing_far(fars, one) != thing_far(fars, other)]
+
+
 def parters_of(web, one, other):
     """All places that part two unlike things, rising."""
     refuse_no_thing(web, one)
     refuse_no_thing(web, other)
-    places = things_of(web, "places")
-    code, another = codes_of(web, places, [one, other])
-    return [place for place in places if code[place] != another[place]]
+    return parters_by(far_rows(web), one, other)
 
 
 def likes_by(web, looks, kind):

@@ -1,7 +1,7 @@
 """Floors: lots of things that show how many looks are needed at least."""
 
-from farhail.codes import thing_far, things_of
-from farhail.webs import fars_from, neighbour_lists
+from farhail.codes import far_rows, thing_far, things_of
+from farhail.webs import neighbour_lists
 
 
 def are_twins(lists, one, other):
@@ -42,7 +42,7 @@ def floor_height(web, kind, lots):
     """The height of a floor for a kind, None where the lots are no floor."""
     things = things_of(web, kind)
     twins = twins_of(web)
-    rows = [fars_from(web, place) for place in range(web[0])]
+    rows = far_rows(web)
     taken = set()
     height = 0
     for lot in lots:

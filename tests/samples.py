@@ -172,6 +172,34 @@ def chance_looks(web, seed):
     return sorted(draw.sample(range(web[0]), draw.randint(0, min(web[0], 6))))
 
 
+def slow_tree_right(table, things, strength, many, tree, ins=(), outs=()):
+    """Whether a tree of pairs is one for so many looks, of the case with these places in and out."""
+    one, other, trees = tree
+    if one not in things or other not in things or one == other:
+        return False
+    parters = slow_parters(table, one, other)
+    if len(set(parters) & set(ins)) >= strength:
+        return False
+    if len(ins) == many:
+        return len(trees) == 0
+    free = sorted(set(parters) - set(ins) - set(outs))
+    if len(free) != len(trees):
+        return False
+    cases = [(ins + (place,), outs + tuple(free[:at])) for at, place in enumerate(free)]
+    return all(slow_tree_right(table, things, strength, many, *case) for case in
+               [(branch,) + case for branch, case in zip(trees, cases)])
+
+
+def small_webs():
+    """Webs of every sort with one to eight places, all of them of one to four."""
+    webs = [web for many in range(1, 5) for web in all_webs(many)]
+    webs += list(all_webs(5))[::29] + all_trees(5)[::11] + all_trees(6)[::131]
+    webs += [shape(many) for shape in (row, ring, star, whole) for many in (5, 6, 7, 8)]
+    webs += [grid(2, 3), grid(2, 4), two_sided(2, 3), two_sided(3, 4), two_sided(4, 4), two_sided(2, 6)]
+    webs += [spider((2, 2, 1)), spider((2, 2, 3)), renamed(spider((1, 2, 3)), 4), renamed(row(8), 3)]
+    return webs + [chance_web(many, more, 7 * many + more) for many in (6, 7, 8) for more in (0, 1, 2, 4, 9, 20)]
+
+
 def list_parts(told):
     """What is told, if it is a list, and all lists in it."""
     parts = [told] if type(told) is list else []
