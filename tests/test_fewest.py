@@ -133,7 +133,7 @@ class FewestTest(Trial):
                     self.assertEqual(fewest_looks(web, kind, most + 1)[0], "never")
 
     def test_too_many_from_nine_places_on(self):
-        for web in (row(9), ring(9), star(9), whole(9), grid(3, 3), row(10), whole(20), star(60), chance_web(60, 99, 1)):
+        for web in (row(9), ring(9), star(9), whole(9), grid(3, 3), row(10), whole(20), chance_web(60, 99, 1)):
             for kind in KINDS:
                 for strength in (1, 5, 9):
                     self.assert_refused(TooMany, fewest_looks, web, kind, strength)

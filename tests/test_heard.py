@@ -192,7 +192,8 @@ class FittingTest(Trial):
                 things = slow_things(web, kind)
                 looks = list(range(web[0]))
                 strength = strength_of(web, looks, kind)
-                for lost, lies in [(lost, lies) for lost in range(6) for lies in range(5) if lost + 2 * lies < strength]:
+                pairs = [(lost, lies) for lost in range(6) for lies in range(5) if lost + 2 * lies < strength]
+                for lost, lies in pairs:
                     thing = draw.choice(things)
                     heard = slow_code(table, looks, thing)
                     spots = draw.sample(looks, lost + lies)

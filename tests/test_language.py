@@ -131,6 +131,22 @@ class LanguageTest(unittest.TestCase):
             if isinstance(node, ast.Call) and isinstance(node.func, ast.Attribute):
                 self.assertIn(node.func.attr, OWN_METHODS | own, (name, node.lineno))
 
+    def test_no_name_is_a_method_in_one_class_and_a_value_in_another(self):
+        classes = [node for name, node in walked() if isinstance(node, ast.ClassDef)]
+        methods = {node.name for body in classes for node in body.body if isinstance(node, ast.FunctionDef)}
+        values = {node.attr for name, node in walked()
+                  if isinstance(node, ast.Attribute) and isinstance(node.ctx, ast.Store)}
+        self.assert_none(methods & values)
+        self.assert_none((methods | values) & OWN_METHODS - {"__init__"})
+
+    def test_what_stands_at_a_files_top(self):
+        for path in files():
+            for at, node in enumerate(ast.parse(path.read_text("utf-8")).body):
+                docstring = at == 0 and isinstance(node, ast.Expr) and isinstance(node.value, ast.Constant)
+                self.assertTrue(docstring or isinstance(node, (ast.ImportFrom, ast.Assign) + DEFS), (path, node.lineno))
+                if isinstance(node, ast.Assign) and isinstance(node.value, ast.Dict):
+                    self.assert_none(part for part in node.value.values if isinstance(part, (ast.List, ast.Dict)))
+
     def test_no_two_files_draw_from_one_another(self):
         left = {path.stem: set(drawn_from(path)) for path in files()}
         while left:

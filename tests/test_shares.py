@@ -10,7 +10,7 @@ from farhail.fewest import fewest_looks
 from farhail.shares import shares_judged, shares_of
 from tests.samples import (
     HUGE, KINDS, Trial, all_webs, chance_web, grid, ring, row, slow_fars, slow_parters, slow_things, small_webs,
-    star, two_sided, whole,
+    star, whole,
 )
 
 ALONE = (1, ())
@@ -206,7 +206,8 @@ class SharesJudgedTest(Trial):
         for wrong in (
             [(0, 1, 3)], [(0, 1, 2), (0, 2, 1)], [(0, 1, 1), (0, 1, 1), (0, 2, 1)], [(1, 0, 1), (0, 2, 1), (1, 2, 1)],
             [(0, 1, 2), (0, 2, 2), (1, 2, -1)], right + [(0, 1, 0)], [(0, 1, 1), (0, 2, 2), (1, 2, 0)],
-            [(0, 0, 3)], [(0, 3, 3)], [(0, 1, 1), (0, 2, 1), ((0, 1), (1, 2), 1)], [(0, 1, 1), (0, 2, 1), (2, (0, 1), 1)],
+            [(0, 0, 3)], [(0, 3, 3)], [(0, 1, 1), (0, 2, 1), ((0, 1), (1, 2), 1)],
+            [(0, 1, 1), (0, 2, 1), (2, (0, 1), 1)],
         ):
             self.assert_judged(False, whole(3), "places", 2, [1, 1, 1], wrong)
 

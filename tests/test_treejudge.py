@@ -111,7 +111,8 @@ class TreeShowsTest(Trial):
     def test_great_webs(self):
         draw = random.Random(2)
         right = 0
-        for web in (row(20), ring(12), whole(9), star(60), grid(3, 4), whole(20), two_sided(5, 6), chance_web(30, 30, 1)):
+        webs = [row(20), ring(12), whole(9), star(60), grid(3, 4), whole(20), two_sided(5, 6), chance_web(30, 30, 1)]
+        for web in webs:
             table = slow_fars(web)
             for kind in KINDS:
                 for strength, many in ((1, 0), (1, 1), (2, 1)):
@@ -146,12 +147,15 @@ class TreeShowsTest(Trial):
         self.assertIs(tree_shows(row(5), "all", 1, 0, (0, (1, 2), ())), True)
 
     def test_ordinary(self):
-        for right in ((1, 2, ((2, 3, ()), (1, 3, ()))), (1, 2, ((2, 3, ()), (3, 4, ()))), (2, 1, ((4, 2, ()), (4, 3, ())))):
+        rights = ((2, 3, ()), (1, 3, ())), ((2, 3, ()), (3, 4, ())), ((4, 2, ()), (4, 3, ()))
+        for right in [(1, 2, trees) for trees in rights] + [(2, 1, trees) for trees in rights]:
             self.assertIs(tree_shows(star(5), "places", 1, 1, right), True)
         for wrong in (
-            (1, 2, ()), (1, 2, ((2, 3, ()),)), (1, 2, ((3, 4, ()), (2, 3, ()))), (1, 2, ((2, 3, ()), (3, 4, ()), (3, 4, ()))),
+            (1, 2, ()), (1, 2, ((2, 3, ()),)), (1, 2, ((3, 4, ()), (2, 3, ()))),
+            (1, 2, ((2, 3, ()), (3, 4, ()), (3, 4, ()))),
             (1, 2, ((2, 3, ()), (3, 3, ()))), (1, 2, ((2, 3, ()), (3, 5, ()))), (1, 2, ((2, 3, ()), (3, -1, ()))),
-            (1, 2, ((2, 3, ()), (3, (0, 1), ()))), (1, 2, ((2, 3, ()), (3, 4, ((3, 4, ()),)))), (0, 2, ((2, 3, ()), (3, 4, ()))),
+            (1, 2, ((2, 3, ()), (3, (0, 1), ()))), (1, 2, ((2, 3, ()), (3, 4, ((3, 4, ()),)))),
+            (0, 2, ((2, 3, ()), (3, 4, ()))),
         ):
             self.assertIs(tree_shows(star(5), "places", 1, 1, wrong), False, wrong)
 
@@ -161,7 +165,8 @@ class TreeShowsTest(Trial):
             ("ties", ((0, 1), (2, 3)), (
                 ((0, 1), (0, 1)), ((1, 0), (2, 3)), ((0, 1), (3, 2)), (0, 2), (0, (0, 1)), ((0, 1), 4),
                 ((0, 1), (0, 2)), ((0, 1), (4, 5)), ((0, 1), (1, 1)), ((0, HUGE), (1, 2)), ((-1, 0), (1, 2)))),
-            ("all", (0, (2, 3)), ((0, 0), ((0, 1), (1, 0)), (0, (1, 0)), (5, 0), (0, -1), ((0, 2), 0), ((0, 1), (0, 1)))),
+            ("all", (0, (2, 3)), (
+                (0, 0), ((0, 1), (1, 0)), (0, (1, 0)), (5, 0), (0, -1), ((0, 2), 0), ((0, 1), (0, 1)))),
         ):
             self.assertIs(tree_shows(row(5), kind, 1, 0, right + ((),)), True)
             for one, other in wrongs:
@@ -182,12 +187,14 @@ class TreeShowsTest(Trial):
 
     def wrong_ways(self, web, kind, here, has_more):
         one, other, trees = here
-        ways = [(one, one, trees), (other, other, trees), (web[0], other, trees), (one, -1, trees), (one, (1, 0), trees)]
+        ways = [(one, one, trees), (other, other, trees), (web[0], other, trees)]
+        ways += [(one, -1, trees), (one, (1, 0), trees)]
         ways += [((0, 1), other, trees)] if kind == "places" else []
         ways += [(0, other, trees)] if kind == "ties" else []
         ways += [(one, other, trees + ((one, other, ()),))]
         if has_more and trees:
-            ways += [(one, other, ()), (one, other, trees[:-1]), (one, other, trees[1:]), (one, other, trees + trees[:1])]
+            ways += [(one, other, ()), (one, other, trees[:-1])]
+            ways += [(one, other, trees[1:]), (one, other, trees + trees[:1])]
         return ways
 
     def test_two_trees_exchanged_or_one_twice(self):
