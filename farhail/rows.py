@@ -96,7 +96,7 @@ def read_row(row, web):
 def refuse_no_places(web, sort, value):
     """Refuses a number, alone or in a thing, that should be a place of the web and is none."""
     if sort == "thing" and isinstance(value, tuple):
-        refuse_no_place(web, value[0])
+        # The lesser end of a tie is a place where the greater one is.
         refuse_no_place(web, value[1])
-    elif sort == "thing" or sort == "place":
+    elif sort in ("thing", "place"):
         refuse_no_place(web, value)
